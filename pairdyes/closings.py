@@ -1,6 +1,7 @@
 """Closed dyeings, and the coarsest closed dyeing within a dyeing, found by counting rounds."""
 
 from pairdyes.dyeings import dye_count, dyed
+from pairdyes.errors import NotClosed
 
 
 def between_table(dyeing):
@@ -68,6 +69,12 @@ def least_uneven(one, other):
 def is_closed(dyeing):
     """Tells whether a dyeing is closed."""
     return closed_breach(dyeing) is None
+
+
+def check_closed(dyeing):
+    """Raises NotClosed for a dyeing that is not closed."""
+    if not is_closed(dyeing):
+        raise NotClosed("the dyeing is not closed")
 
 
 def begun(dyeing):

@@ -10,6 +10,18 @@ def is_number(value):
     return isinstance(value, int) and not isinstance(value, bool)
 
 
+def is_below(value, end):
+    """Tells whether any value is an integer from 0 on and below the end."""
+    return is_number(value) and 0 <= value < end
+
+
+def is_ascending(value, end):
+    """Tells whether any value is an ascending tuple of integers from 0 on and below the end."""
+    if not isinstance(value, tuple) or not all([is_below(entry, end) for entry in value]):
+        return False
+    return all([one < other for one, other in zip(value, value[1:])])
+
+
 def dyeing_breach(value):
     """Returns None for a dyeing, and otherwise the first broken rule and its place."""
     if not isinstance(value, tuple) or len(value) > MOST_PLACES:

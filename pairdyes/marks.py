@@ -5,6 +5,7 @@ from itertools import combinations
 from pairdyes.closings import closing
 from pairdyes.dyeings import dye_count, dyed
 from pairdyes.errors import TooMany
+from pairdyes.orders import parts_by
 
 MOST_BASED = 8
 
@@ -20,10 +21,7 @@ def marked(dyeing, places):
 
 def place_parts(dyeing):
     """Returns the places, parted by the dyes of their middle pairs in the closing."""
-    parts = {}
-    for x, row in enumerate(closing(dyeing)):
-        parts.setdefault(row[x], []).append(x)
-    return tuple([tuple(part) for part in parts.values()])
+    return parts_by([row[x] for x, row in enumerate(closing(dyeing))])
 
 
 def parts_all(dyeing, places):

@@ -2,7 +2,7 @@
 
 from itertools import permutations
 
-from pairdyes.dyeings import dyed
+from pairdyes.dyeings import dyed, is_number
 from pairdyes.errors import TooMany
 
 MOST_LISTED = 7
@@ -13,8 +13,18 @@ def turned(dyeing):
     return dyed(tuple(zip(*dyeing)))
 
 
+def is_listing(value, n):
+    """Tells whether any value is a listing of n numbers."""
+    if not isinstance(value, tuple) or len(value) != n or not all([is_number(entry) for entry in value]):
+        return False
+    return sorted(value) == list(range(n))
+
+
 def numbered(dyeing, listing):
-    """Returns the dyeing whose pair (i, j) has the dye of (listing[i], listing[j]), numbered anew."""
+    """Returns the dyeing whose pair (i, j) has the dye of (listing[i], listing[j]), numbered anew.
+
+    Within the package the listing may also have some of the places only.
+    """
     return dyed([[dyeing[x][y] for y in listing] for x in listing])
 
 

@@ -1,4 +1,4 @@
-"""Which dyeings are finer or coarser than others."""
+"""Which dyeings are finer or coarser than others, and how numbers that are made one are parted."""
 
 from pairdyes.dyeings import dye_count, dyed
 from pairdyes.errors import NotFit
@@ -34,16 +34,38 @@ def met(one, other):
 def joined(one, other):
     """Returns the finest dyeing that both dyeings are within."""
     check_fit(one, other)
-    leaders = list(range(dye_count(one)))
     firsts = {}
-    for dye, partner in dye_pairs(one, other):
-        first = leader_of(leaders, firsts.setdefault(partner, dye))
-        leaders[leader_of(leaders, dye)] = first
-    return dyed([[leader_of(leaders, dye) for dye in row] for row in one])
+    links = [(firsts.setdefault(partner, dye), dye) for dye, partner in dye_pairs(one, other)]
+    leaders = leaders_by(dye_count(one), links)
+    return dyed([[leaders[dye] for dye in row] for row in one])
 
 
-def leader_of(leaders, dye):
-    """Returns the one dye to which all dyes that were made one with a dye lead."""
-    while leaders[dye] != dye:
-        dye = leaders[dye]
-    return dye
+def leaders_by(many, links):
+    """Returns, for each number below `many`, the least one of those that the links make one with it."""
+    leaders = list(range(many))
+    for one, other in links:
+        low, high = sorted((leader_of(leaders, one), leader_of(leaders, other)))
+        leaders[high] = low
+    return [leader_of(leaders, number) for number in range(many)]
+
+
+def leader_of(leaders, number):
+    """Returns the one number to which all numbers that were made one with a number lead."""
+    while leaders[number] != number:
+        # Going two ways at once from then on keeps all ways short.
+        leaders[number] = leaders[leaders[number]]
+        number = leaders[number]
+    return number
+
+
+def links_of(listings):
+    """Returns the links that make each number one with the number to which each of the listings takes it."""
+    return [link for listing in listings for link in enumerate(listing)]
+
+
+def parts_by(keys):
+    """Returns the indices of the keys, parted by the keys: ascending tuples, ascending."""
+    parts = {}
+    for at, key in enumerate(keys):
+        parts.setdefault(key, []).append(at)
+    return tuple([tuple(part) for part in parts.values()])

@@ -1,6 +1,6 @@
 """Rows of steps, the tables that they stand for, and which rows tell two pairs apart."""
 
-from pairdyes.dyeings import dye_count, is_number
+from pairdyes.dyeings import dye_count, is_below, is_number
 from pairdyes.errors import NotSteps, TooGreat
 
 MOST_STEPS = 1000
@@ -31,11 +31,6 @@ def is_step(value, at, r):
     if word == "just":
         return is_below(value[1], at) and is_number(value[2])
     return all([is_below(part, at) for part in value[1:]])
-
-
-def is_below(value, end):
-    """Tells whether any value is an integer from 0 on and below the end."""
-    return is_number(value) and 0 <= value < end
 
 
 def told_tables(dyeing, steps):

@@ -1,6 +1,9 @@
 """Dyeings that several tests use, and slow, plain ways to work out what the package should return."""
 
 import random
+from itertools import permutations
+
+from pairdyes.closings import closing
 
 # Two places in one lot; a way of three places; three places with a dye for the middle and one for the rest.
 TWO = ((0, 1), (1, 0))
@@ -41,6 +44,139 @@ def ring_dyeing(n):
 def way_dyeing(n):
     """The dyeing of n places in a row: middle pairs, neighbours, and all others."""
     return plain_dyed([[min(abs(x - y), 2) for y in range(n)] for x in range(n)])
+
+
+def tied_dyeing(n, is_tied):
+    """The dyeing of n places with a dye at the middle pairs, one at the ties, and one at all others."""
+    return plain_dyed([[0 if x == y else 1 if is_tied(x, y) else 2 for y in range(n)] for x in range(n)])
+
+
+def hoop_dyeing(n):
+    """The dyeing of n places by their distance around a ring."""
+    return plain_dyed([[min((y - x) % n, (x - y) % n) for y in range(n)] for x in range(n)])
+
+
+def cube_dyeing(k):
+    """The dyeing of 2 ** k places by the number of binary digits at which they are unlike."""
+    return plain_dyed([[(x ^ y).bit_count() for y in range(2 ** k)] for x in range(2 ** k)])
+
+
+def xor_dyeing(k):
+    """The dyeing of 2 ** k places by the binary digits at which they are unlike: 2 ** k dyes."""
+    return plain_dyed([[x ^ y for y in range(2 ** k)] for x in range(2 ** k)])
+
+
+def blocks_dyeing(n, m):
+    """The dyeing of n places in blocks of m: middle pairs, pairs in a block, and all others."""
+    return tied_dyeing(n, lambda x, y: x // m == y // m)
+
+
+def shrikhande_dyeing():
+    """A dyeing of 16 places that is closed and has three dyes, though moves part the pairs into four sorts."""
+    steps = {(0, 1), (0, 3), (1, 0), (3, 0), (1, 1), (3, 3)}
+    return tied_dyeing(16, lambda x, y: ((x // 4 - y // 4) % 4, (x - y) % 4) in steps)
+
+
+def rook_dyeing():
+    """The dyeing of a board of 4 times 4 by the ways of a rook; its counts are those of `shrikhande_dyeing`."""
+    return tied_dyeing(16, lambda x, y: (x // 4 == y // 4) != (x % 4 == y % 4))
+
+
+def petersen_dyeing():
+    """The dyeing of the ten pairs of five things: the same, without a common thing, and all others."""
+    things = [(a, b) for b in range(5) for a in range(b)]
+    return tied_dyeing(10, lambda x, y: not set(things[x]) & set(things[y]))
+
+
+def listings_dyeing(listings):
+    """The dyeing of the listings of a group by what leads from one to the other one."""
+    listings = sorted(listings)
+    n = len(listings[0])
+
+    def back(one):
+        return tuple(one.index(x) for x in range(n))
+
+    return plain_dyed([[tuple(back(one)[other[x]] for x in range(n)) for other in listings] for one in listings])
+
+
+def swaps_dyeing():
+    """The dyeing of the six listings of three numbers: six dyes, of which some differ by their sequence."""
+    return listings_dyeing(permutations(range(3)))
+
+
+def turns_dyeing():
+    """The dyeing of the twelve even listings of four numbers."""
+    even = [p for p in permutations(range(4)) if sum(p[i] > p[j] for j in range(4) for i in range(j)) % 2 == 0]
+    return listings_dyeing(even)
+
+
+def even_dyeings():
+    """Even dyeings of 1 to 16 places of many sorts."""
+    found = [even_dyeing(n) for n in (1, 2, 3, 5, 8, 16)]
+    found += [ring_dyeing(n) for n in (3, 4, 6, 8, 9, 12, 16)]
+    found += [hoop_dyeing(n) for n in (4, 5, 6, 7, 8, 12, 13)]
+    found += [cube_dyeing(k) for k in (2, 3, 4)] + [xor_dyeing(k) for k in (2, 3, 4)]
+    found += [blocks_dyeing(4, 2), blocks_dyeing(6, 2), blocks_dyeing(6, 3), blocks_dyeing(12, 4)]
+    return found + [shrikhande_dyeing(), rook_dyeing(), petersen_dyeing(), swaps_dyeing(), turns_dyeing()]
+
+
+def closed_dyeings(most=6):
+    """Closed dyeings of 0 to `most` places of several sorts, each once."""
+    found = [closing(dyeing) for dyeing in some_dyeings(most)]
+    found += [dyeing for dyeing in even_dyeings() if len(dyeing) <= most]
+    # These have several lots.
+    found += [plain_marked(even_dyeing(n), k) for n in range(2, most + 1) for k in range(1, n)]
+    return sorted(set(found))
+
+
+def plain_marked(dyeing, many):
+    """The closing of a dyeing of which the first so many places get another dye at their middle pairs."""
+    table = [[(dye, x == y and x < many) for y, dye in enumerate(row)] for x, row in enumerate(dyeing)]
+    return closing(plain_dyed(table))
+
+
+def plain_moves(dyeing):
+    """All moves by trying all listings."""
+    n = len(dyeing)
+    return tuple(
+        p for p in permutations(range(n))
+        if all(dyeing[p[x]][p[y]] == dyeing[x][y] for x in range(n) for y in range(n))
+    )
+
+
+def plain_numbered(dyeing, listing):
+    """`numbered` pair by pair."""
+    return plain_dyed([[dyeing[x][y] for y in listing] for x in listing])
+
+
+def plain_joinings(dyes):
+    """All ways to part some dyes, as sets of sets: each dye on its own, or with some of the parts of the others."""
+    if not dyes:
+        return {frozenset()}
+    found = set()
+    for parts in plain_joinings(dyes[1:]):
+        found.add(parts | {frozenset({dyes[0]})})
+        for part in parts:
+            found.add((parts - {part}) | {part | {dyes[0]}})
+    return found
+
+
+def plain_groups(many, listings):
+    """The numbers below `many`, parted by what the listings take to each other, by walking from each of them."""
+    parts = set()
+    for start in range(many):
+        part = [start]
+        for number in part:
+            for listing in listings:
+                for other in (listing[number], listing.index(number)):
+                    if other not in part:
+                        part.append(other)
+        parts.add(tuple(sorted(part)))
+    return tuple(sorted(parts))
+
+
+# Values that are no tuple, no integer and no string that any point asks for.
+OTHER_VALUES = [None, True, False, 0, 1, -1, 1.0, "", "0", b"", [], [0], {}, {0: 0}, set(), frozenset(), object()]
 
 
 def random_dyeing(seed, n, dyes):

@@ -64,6 +64,15 @@ def bound_names(node):
     return []
 
 
+def plain_value(node, functions):
+    """The plain value that stands at module level; a function defined above counts by its name."""
+    if isinstance(node, ast.Dict) and all(isinstance(part, ast.Name) for part in node.values):
+        if not {part.id for part in node.values} <= set(functions):
+            raise ValueError("a table of what is no function defined above")
+        return {ast.literal_eval(key): part.id for key, part in zip(node.keys, node.values)}
+    return ast.literal_eval(node)
+
+
 def is_docstring(node):
     """Whether a statement is a string alone."""
     return isinstance(node, ast.Expr) and isinstance(node.value, ast.Constant) and isinstance(node.value.value, str)
@@ -102,20 +111,22 @@ class LanguageTest(unittest.TestCase):
     def test_module_level(self):
         for name, tree in trees():
             bound = []
+            functions = []
             for node in tree.body:
                 allowed = (ast.ImportFrom, ast.FunctionDef, ast.ClassDef, ast.Assign)
                 self.assertTrue(is_docstring(node) or isinstance(node, allowed), (name, node.lineno))
                 if isinstance(node, ast.ImportFrom):
                     bound += [alias.name for alias in node.names]
                 elif isinstance(node, ast.Assign):
-                    ast.literal_eval(node.value)
+                    plain_value(node.value, functions)
                     self.assertEqual(len(node.targets), 1)
                     bound.append(node.targets[0].id)
                 elif not is_docstring(node):
                     bound.append(node.name)
+                    functions += [node.name] if isinstance(node, ast.FunctionDef) else []
             self.assertEqual(len(bound), len(set(bound)), name)
             inner = [
-                word for top in tree.body if isinstance(top, ast.FunctionDef)
+                word for top in tree.body if isinstance(top, (ast.FunctionDef, ast.ClassDef))
                 for node in ast.walk(top) if node is not top for word in bound_names(node)
             ]
             imported = [alias.name for node in tree.body if isinstance(node, ast.ImportFrom) for alias in node.names]
