@@ -26,6 +26,11 @@ def is_joining(value, r):
     return list(value) == sorted(value) and sorted([dye for part in value for dye in part]) == list(range(r))
 
 
+def is_joining_with_zero(value, r):
+    """Tells whether any value is a joining of r dyes, r being at least 1, that leaves the dye 0 alone."""
+    return is_joining(value, r) and value[0] == (0,)
+
+
 def part_indices(joining):
     """Returns for each dye the index of its part."""
     return {dye: at for at, part in enumerate(joining) for dye in part}

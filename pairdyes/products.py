@@ -46,12 +46,18 @@ def nested(one, other):
     ])
 
 
-def power(dyeing, k):
-    """Returns the dyeing of the rows of k places by the dyes at all entries, whatever their sequence."""
+def rows_below(n, k):
+    """Returns the list of the rows of k integers below n, ascending, if they are not too many to be places."""
     rows = [()]
     for _ in range(k):
-        rows = [row + (x,) for row in rows for x in range(len(dyeing))]
-        check_places(len(rows))
+        check_places(len(rows) * n)
+        rows = [row + (x,) for row in rows for x in range(n)]
+    return rows
+
+
+def power(dyeing, k):
+    """Returns the dyeing of the rows of k places by the dyes at all entries, whatever their sequence."""
+    rows = rows_below(len(dyeing), k)
     return dyed([[tuple(sorted([dyeing[x][y] for x, y in zip(row, other)])) for other in rows] for row in rows])
 
 

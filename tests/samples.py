@@ -120,6 +120,47 @@ def even_dyeings():
     return found + [shrikhande_dyeing(), rook_dyeing(), petersen_dyeing(), swaps_dyeing(), turns_dyeing()]
 
 
+def plain_dyeings():
+    """Plain dyeings of 1 to 16 places of many sorts, some of them with their places numbered otherwise."""
+    found = [even_dyeing(n) for n in (1, 2, 3, 5, 8, 16)] + [hoop_dyeing(4), hoop_dyeing(6)]
+    found += [cube_dyeing(k) for k in (2, 3, 4)] + [xor_dyeing(k) for k in (2, 3, 4)]
+    found += [blocks_dyeing(4, 2), blocks_dyeing(6, 2), blocks_dyeing(6, 3), blocks_dyeing(12, 4)]
+    found += [shrikhande_dyeing(), rook_dyeing(), petersen_dyeing(), halves_dyeing()]
+    return found + [plain_numbered(dyeing, random_listing(len(dyeing), len(dyeing))) for dyeing in found[3::2]]
+
+
+def halves_dyeing():
+    """The plain dyeing of 16 places by y - x around a ring, made one where one is an odd number times the other."""
+    sorts = [0, 1, 2, 1, 3, 1, 2, 1, 4, 1, 2, 1, 3, 1, 2, 1]
+    return plain_dyed([[sorts[(y - x) % 16] for y in range(16)] for x in range(16)])
+
+
+def even_not_plain():
+    """Even dyeings that are not plain: with dyes that are not their own turned ones, and with too few shades."""
+    found = [ring_dyeing(n) for n in (3, 4, 6, 16)] + [swaps_dyeing(), turns_dyeing()]
+    return found + [hoop_dyeing(n) for n in (5, 7, 8, 9, 10, 13, 16)]
+
+
+def not_even():
+    """Dyeings that are not even: empty, not closed, or with several dyes at the middle pairs."""
+    several = ((0, 1, 1), (2, 3, 4), (2, 4, 3))
+    return [(), WAY, ((0, 0), (0, 0)), ((0, 1), (2, 3)), several, way_dyeing(16), single_dyeing(16), full_dyeing(16)]
+
+
+def plain_counts(dyeing):
+    """The counts c(K; I, J) of a closed dyeing, as a dict, each by looking at one pair of the dye K."""
+    r = plain_dye_count(dyeing)
+    first = {dyeing[x][y]: (x, y) for x, y in pairs(dyeing)}
+    return {
+        (k, i, j): between_count(dyeing, i, j, *first[k]) for k in range(r) for i in range(r) for j in range(r)
+    }
+
+
+def plain_degrees(dyeing):
+    """The degrees of an even dyeing: how often each dye stands in the first row."""
+    return [dyeing[0].count(dye) for dye in range(plain_dye_count(dyeing))]
+
+
 def closed_dyeings(most=6):
     """Closed dyeings of 0 to `most` places of several sorts, each once."""
     found = [closing(dyeing) for dyeing in some_dyeings(most)]
@@ -177,6 +218,21 @@ def plain_groups(many, listings):
 
 # Values that are no tuple, no integer and no string that any point asks for.
 OTHER_VALUES = [None, True, False, 0, 1, -1, 1.0, "", "0", b"", [], [0], {}, {0: 0}, set(), frozenset(), object()]
+
+
+# Values that are no joining of the dyes 0, 1, 2 with the part (0,), and so no cut of three numbers.
+NO_CUTS = OTHER_VALUES + [
+    (), ((),), ((), (0,), (1,), (2,)), ((0,), (1,), (2,), ()), ((0,), (), (1, 2)), "012", ((0,), (1, 2), None),
+    [(0,), (1,), (2,)], ([0], [1], [2]), ((0,), (1,), [2]), ([0], (1, 2)), ((0,), [1, 2]), ((0,), (1,), 2), (0, 1, 2),
+    ((0,), (0,), (1,), (2,)), ((0, 0), (1,), (2,)), ((0,), (1, 2), (2,)), ((0,), (1, 1), (2,)), ((0,), (1, 2), (1, 2)),
+    ((0,),), ((0,), (1,)), ((0,), (2,)), ((1,), (2,)), ((1, 2),), ((0,), (1,), (2,), (3,)), ((0,), (1, 2, 3)),
+    ((-1,), (0,), (1,), (2,)), ((0,), (-1, 1, 2)), ((0,), (1,), (3,)), ((0,), (1,), (2, 10 ** 30)),
+    ((False,), (1,), (2,)), ((False,), (1, 2)), ((0,), (True,), (2,)), ((0,), (True, 2)), ((0.0,), (1,), (2,)),
+    ((0,), (1.0, 2)), ((0,), (None,), (2,)), ((0,), ("1",), (2,)), ((0,), ((1,),), (2,)), ((0,), ([],), (2,)),
+    ((1,), (0,), (2,)), ((0,), (2,), (1,)), ((0,), (2, 1)), ((1, 2), (0,)), (((0,), (1,), (2,)),), ((0,), {1, 2}),
+    # These are joinings, but without the part (0,).
+    ((0, 1), (2,)), ((0, 2), (1,)), ((0, 1, 2),),
+]
 
 
 def random_dyeing(seed, n, dyes):

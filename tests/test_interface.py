@@ -5,6 +5,7 @@ import importlib
 import inspect
 import unittest
 
+from tests import samples
 from tests.samples import THREE, TWO, WAY
 
 FUNCTIONS = {
@@ -76,11 +77,70 @@ FUNCTIONS = {
         "power": ["dyeing", "k"],
         "taken_apart": ["dyeing"],
     },
+    "shades": {
+        "is_plain": ["dyeing"],
+        "shades": ["dyeing"],
+        "ranks": ["dyeing"],
+        "second_table": ["dyeing"],
+        "idle_table": ["dyeing", "j"],
+        "second_counts": ["dyeing"],
+        "shade_kinds": ["dyeing", "joining"],
+    },
+    "sums": {
+        "row_of": ["sizes", "b"],
+        "added": ["sizes", "a", "b"],
+        "taken": ["sizes", "a", "b"],
+        "cut_dyeing": ["sizes", "cut"],
+        "is_closed_cut": ["sizes", "cut"],
+        "closed_cuts": ["sizes"],
+        "least_closed_cut": ["sizes", "cut"],
+        "additive_listings": ["sizes"],
+        "orbit_cut": ["sizes", "listings"],
+    },
+    "characters": {
+        "wheel": ["d"],
+        "character_sum": ["sizes", "numbers", "a"],
+        "dual_cut": ["sizes", "cut"],
+        "rational_cut": ["sizes"],
+    },
+    "lots": {
+        "inner_row": ["dyeing", "lot"],
+        "outer_row": ["dyeing", "lot"],
+        "is_level": ["dyeing", "lot", "numbers"],
+        "greatest_lot": ["dyeing", "dyes"],
+    },
+    "weighings": {
+        "weighing_breach": ["dyeing", "dyes", "value"],
+        "bound_of": ["dyeing", "dyes", "weighing"],
+        "least_bound": ["dyeing", "dyes"],
+        "best_weighing": ["dyeing", "dyes"],
+        "best_inner": ["dyeing", "dyes"],
+    },
+    "webs": {
+        "web_dyeing": ["web"],
+        "distances": ["web"],
+        "distance_dyeing": ["web"],
+        "far_web": ["web", "d"],
+        "array_of": ["web"],
+        "array_breach": ["value"],
+        "array_row": ["array"],
+    },
+    "families": {
+        "ring_web": ["n"],
+        "letter_web": ["k", "q"],
+        "choice_web": ["n", "k"],
+        "parts_web": ["numbers"],
+        "line_web": ["web"],
+    },
+    "lists": {"closed_dyeings": ["n"]},
+    "books": {"done": ["dyeing", "deed"]},
 }
 
 # A dyeing of four places around a ring by their distance, and the sheet of TWO.
 SQUARE = ((0, 1, 2, 1), (1, 0, 1, 2), (2, 1, 0, 1), (1, 2, 1, 0))
 SHEET = ((0,), (0, 1), (((1, 0), (0, 1)), ((0, 1), (1, 0))))
+# Four places around a ring as a web.
+RING = (4, ((0, 1), (0, 3), (1, 2), (2, 3)))
 STEPS = (("dye", 1), ("middle",), ("turned", 0), ("times", 0, 1), ("then", 0, 2), ("just", 4, 2))
 
 # For each call: the module, the name, the arguments by name, and what is returned.
@@ -144,6 +204,54 @@ CALLS = [
     ("products", "nested", {"one": TWO, "other": ((0,),)}, TWO),
     ("products", "power", {"dyeing": TWO, "k": 2}, ((0, 1, 1, 2), (1, 0, 2, 1), (1, 2, 0, 1), (2, 1, 1, 0))),
     ("products", "taken_apart", {"dyeing": SQUARE}, ()),
+    ("shades", "is_plain", {"dyeing": THREE}, True),
+    ("shades", "shades", {"dyeing": SQUARE}, ((1, 2, 1), (1, 0, -1), (1, -2, 1))),
+    ("shades", "ranks", {"dyeing": SQUARE}, (1, 2, 1)),
+    ("shades", "second_table", {"dyeing": THREE}, (((1, 1), (2, 1)), ((1, 1), (-1, 1)))),
+    ("shades", "idle_table", {"dyeing": TWO, "j": 1}, (((1, 2), (-1, 2)), ((-1, 2), (1, 2)))),
+    (
+        "shades", "second_counts", {"dyeing": TWO},
+        ((((1, 1), (0, 1)), ((0, 1), (1, 1))), (((0, 1), (1, 1)), ((1, 1), (0, 1)))),
+    ),
+    ("shades", "shade_kinds", {"dyeing": SQUARE, "joining": ((0,), (1, 2))}, ((0,), (1, 2))),
+    ("sums", "row_of", {"sizes": (2, 3), "b": 5}, (1, 2)),
+    ("sums", "added", {"sizes": (2, 3), "a": 5, "b": 4}, 0),
+    ("sums", "taken", {"sizes": (2, 3), "a": 1, "b": 5}, 5),
+    ("sums", "cut_dyeing", {"sizes": (4,), "cut": ((0,), (1, 3), (2,))}, SQUARE),
+    ("sums", "is_closed_cut", {"sizes": (4,), "cut": ((0,), (1, 3), (2,))}, True),
+    ("sums", "closed_cuts", {"sizes": (3,)}, (((0,), (1,), (2,)), ((0,), (1, 2)))),
+    ("sums", "least_closed_cut", {"sizes": (3,), "cut": ((0,), (1, 2))}, ((0,), (1, 2))),
+    ("sums", "additive_listings", {"sizes": (3,)}, ((0, 1, 2), (0, 2, 1))),
+    ("sums", "orbit_cut", {"sizes": (3,), "listings": ((0, 2, 1),)}, ((0,), (1, 2))),
+    ("characters", "wheel", {"d": 6}, (1, -1, 1)),
+    ("characters", "character_sum", {"sizes": (3,), "numbers": (1,), "a": 2}, (-1, -1)),
+    ("characters", "dual_cut", {"sizes": (3,), "cut": ((0,), (1, 2))}, ((0,), (1, 2))),
+    ("characters", "rational_cut", {"sizes": (4,)}, ((0,), (1, 3), (2,))),
+    ("lots", "inner_row", {"dyeing": SQUARE, "lot": (0, 1, 2)}, ((1, 1), (4, 3), (2, 3))),
+    ("lots", "outer_row", {"dyeing": SQUARE, "lot": (0, 2)}, ((2, 1), (0, 1), (2, 1))),
+    ("lots", "is_level", {"dyeing": SQUARE, "lot": (0, 2), "numbers": (1,)}, True),
+    ("lots", "greatest_lot", {"dyeing": SQUARE, "dyes": (2,)}, (0, 2)),
+    ("weighings", "weighing_breach", {"dyeing": TWO, "dyes": (1,), "value": ((1, 1), (1, 1))}, None),
+    ("weighings", "weighing_breach", {"dyeing": TWO, "dyes": (1,), "value": ((1, 1), (0, 1))}, 3),
+    ("weighings", "bound_of", {"dyeing": TWO, "dyes": (1,), "weighing": ((1, 1), (3, 2))}, (5, 2)),
+    ("weighings", "least_bound", {"dyeing": TWO, "dyes": (1,)}, (2, 1)),
+    ("weighings", "best_weighing", {"dyeing": TWO, "dyes": (1,)}, ((1, 1), (1, 1))),
+    ("weighings", "best_inner", {"dyeing": TWO, "dyes": (1,)}, ((1, 1), (1, 1))),
+    ("webs", "web_dyeing", {"web": RING}, SQUARE),
+    ("webs", "distances", {"web": RING}, SQUARE),
+    ("webs", "distance_dyeing", {"web": RING}, SQUARE),
+    ("webs", "far_web", {"web": RING, "d": 2}, (4, ((0, 2), (1, 3)))),
+    ("webs", "array_of", {"web": RING}, ((2, 1), (1, 2))),
+    ("webs", "array_breach", {"value": ((2, 1), (1, 2))}, None),
+    ("webs", "array_breach", {"value": [(2, 1), (1, 2)]}, "form"),
+    ("webs", "array_row", {"array": ((2, 1), (1, 2))}, (1, 2, 1)),
+    ("families", "ring_web", {"n": 4}, RING),
+    ("families", "letter_web", {"k": 1, "q": 3}, (3, ((0, 1), (0, 2), (1, 2)))),
+    ("families", "choice_web", {"n": 3, "k": 2}, (3, ((0, 1), (0, 2), (1, 2)))),
+    ("families", "parts_web", {"numbers": (1, 2)}, (3, ((0, 1), (0, 2)))),
+    ("families", "line_web", {"web": (3, ((0, 1), (1, 2)))}, (2, ((0, 1),))),
+    ("lists", "closed_dyeings", {"n": 2}, (TWO, ((0, 1), (2, 3)))),
+    ("books", "done", {"dyeing": WAY, "deed": ("join", 1, 2)}, THREE),
 ]
 
 
@@ -205,6 +313,27 @@ class InterfaceTest(unittest.TestCase):
         is_telling(TWO, steps, (0, 0), (0, 1))
         self.assertEqual(steps, (["dye", 1],))
 
+    def test_lists_in_later_functions_are_unchanged(self):
+        from pairdyes.books import Book, done
+        from pairdyes.characters import dual_cut
+        from pairdyes.errors import NotAdditive, NotCut, NotDeed, NotJoining, NotWeighing
+        from pairdyes.shades import shade_kinds
+        from pairdyes.sums import cut_dyeing, is_closed_cut, least_closed_cut, orbit_cut
+        from pairdyes.webs import array_breach
+        from pairdyes.weighings import bound_of, weighing_breach
+        value = [[0], [1, 2]]
+        for wrong in (value, (value,), tuple(value)):
+            self.assertEqual(array_breach(wrong), "form")
+            self.assertEqual(weighing_breach(THREE, (1,), wrong), -1)
+            self.assertRaises(NotWeighing, bound_of, THREE, (1,), wrong)
+            self.assertRaises(NotJoining, shade_kinds, SQUARE, wrong)
+            for function in (cut_dyeing, is_closed_cut, least_closed_cut, dual_cut):
+                self.assertRaises(NotCut, function, (3,), wrong)
+            self.assertRaises(NotAdditive, orbit_cut, (3,), wrong)
+            for call in (Book(WAY).do, Book(WAY).trial, lambda deed: done(WAY, deed)):
+                self.assertRaises(NotDeed, call, wrong)
+        self.assertEqual(value, [[0], [1, 2]])
+
     def test_lists_within_any_value_are_unchanged(self):
         from pairdyes.errors import NotJoining, NotLeads
         from pairdyes.joinings import joined_dyes, led_joining
@@ -218,6 +347,42 @@ class InterfaceTest(unittest.TestCase):
             self.assertRaises(NotJoining, joined_dyes, WAY, wrong)
             self.assertRaises(NotLeads, led_joining, THREE, wrong)
         self.assertEqual(value, [[0, 1], [2]])
+
+    def test_the_class_of_books(self):
+        from pairdyes.books import Book
+        self.assertEqual(Book.__module__, "pairdyes.books")
+        self.assertLessEqual({"now", "deeds", "do", "undo", "again", "trial", "twin"}, set(vars(Book)))
+        book = Book(WAY)
+        self.assertIsNone(book.do(("close",)))
+        for told in (book.now, book.deeds, book.trial(()), book.undo(), book.again()):
+            self.assertTrue(is_plain_value(told))
+        self.assertIs(type(book.twin()), Book)
+
+    def test_too_many_places(self):
+        from pairdyes.books import done
+        from pairdyes.dyeings import dyed
+        from pairdyes.errors import NotCut, NotDeed, TooMany
+        from pairdyes.families import choice_web, letter_web, line_web, parts_web, ring_web
+        from pairdyes.groups import group_dyeing
+        from pairdyes.products import nested, power, side_by_side, woven
+        from pairdyes.sums import cut_dyeing
+        from pairdyes.webs import distance_dyeing, web_dyeing
+        wide = tuple((0,) * 17 for _ in range(17))
+        nine = samples.even_dyeing(9)
+        cut = tuple((number,) for number in range(18))
+        for function, *rest in [
+            (dyed, wide), (group_dyeing, 17, ()), (side_by_side, nine, nine), (woven, nine, TWO), (nested, TWO, nine),
+            (power, THREE, 3), (web_dyeing, (17, ())), (distance_dyeing, (17, ())), (cut_dyeing, (2, 9), cut),
+            (ring_web, 17), (letter_web, 2, 5), (choice_web, 17, 1), (parts_web, (9, 8)), (line_web, (7, tuple(
+                (x, y) for y in range(7) for x in range(y)
+            ))),
+        ]:
+            with self.subTest(function=function.__name__), self.assertRaises(TooMany) as caught:
+                function(*rest)
+            self.assertEqual(caught.exception.limit, 16)
+        # Other errors come ahead of it.
+        self.assertRaises(NotCut, cut_dyeing, (2, 9), cut[1:])
+        self.assertRaises(NotDeed, done, nine, ("beside", nine))
 
 
 if __name__ == "__main__":
